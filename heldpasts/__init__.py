@@ -1,0 +1,1 @@
+"""Heldpasts: a store whose every past is one told moment."""
