@@ -1,7 +1,8 @@
 """The errors of parameters that calls of several files have in common."""
 
-from heldpasts.errors import InvalidArea, InvalidBlock, InvalidCount, InvalidImage, InvalidIndex
+from heldpasts.errors import InvalidArea, InvalidBlock, InvalidChanges, InvalidCount, InvalidImage, InvalidIndex
 from heldpasts.errors import InvalidRecord, InvalidSigns, InvalidText
+from heldpasts.records import is_changes
 from heldpasts.texts import is_text
 
 
@@ -58,3 +59,15 @@ def check_record(record):
 def check_text(text):
     if not is_text(text):
         raise InvalidText("this is no string of printing ASCII signs")
+
+
+def check_stretch(low, high):
+    """Both bounds are texts or None, which is no bound."""
+    for bound in (low, high):
+        if bound is not None:
+            check_text(bound)
+
+
+def check_changes(changes):
+    if not is_changes(changes):
+        raise InvalidChanges("changes are an ascending tuple of unlike keys, each with a text or None")

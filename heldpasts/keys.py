@@ -21,6 +21,16 @@ def is_value(value):
     return value is None or type(value) is bool
 
 
+def is_row(value):
+    """Whether a value is a tuple of values that have codes."""
+    return type(value) is tuple and all([is_value(member) for member in value])
+
+
+def check_row(row):
+    if not is_row(row):
+        raise InvalidRow("this is no tuple of values")
+
+
 def value_code(value):
     """The code of one value."""
     if not is_value(value):
@@ -50,8 +60,7 @@ def text_code(text):
 
 def row_code(values):
     """The codes of a tuple of values one behind another."""
-    if type(values) is not tuple or not all([is_value(value) for value in values]):
-        raise InvalidRow("this is no tuple of values")
+    check_row(values)
     return "".join([value_code(value) for value in values])
 
 

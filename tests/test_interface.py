@@ -2,6 +2,7 @@
 
 import importlib
 import inspect
+import re
 import unittest
 
 FUNCTIONS = {
@@ -14,6 +15,11 @@ FUNCTIONS = {
     "tree_pages": "is_sound(pages, tree) reached(pages, tree) stored(pages, tree)",
     "keys": "value_code(value) row_code(values) values_told(code)",
     "records": "deed_text(kind, changes, marks) window_text(least) record_told(text) is_changes(value)",
+    "meaning": "meaning_of(image, signs)",
+    "serial": "leads(one, other) ring_through(nodes, number) order_of(nodes) pivots(nodes) "
+              "kept_nodes(nodes, snapshots)",
+    "holds": "hold_text(hold) hold_told(text) hold_marks(name, hold, signs) holds_told(marks) "
+             "held_names(holds, changes) changing_names(holds, guards)",
 }
 CLASSES = {
     "disk": {"Disk": "__init__(self, image, signs, steps=None) read(self, index) write(self, index, block) flush(self) "
@@ -21,11 +27,21 @@ CLASSES = {
     "log": {"Log": "__init__(self, disk, first, count, age) append(self, record) sync(self)"},
     "pages": {"Pages": "__init__(self, disk) keep(self, lot) read(self, page) spare(self) place(self, page, block) "
                        "turn_to(self, root, age, number, least)"},
+    "store": {"Store": "__init__(self, disk) marks(self) value_at(self, key, number) "
+                       "entries(self, low, high, number) versions_of(self, key) newest(self, key) "
+                       "changed_behind(self, low, high, number) check_number(self, number) meaning(self) "
+                       "add(self, changes, marks=(), commit=True) sync(self) forget(self, least) checkpoint(self)"},
+    "sessions": {"Versions": "__init__(self, store) begin(self, serial=False, at=None) vacuum(self, least) "
+                             "snapshots(self) commit(self, session, synced=True) "
+                             "check_commit(self, session, held=True) "
+                             "lay(self, node, serial, changes, marks, synced) history(self) told_order(self)",
+                 "Session": "value_at(self, key) entries(self, low, high, back=False) put(self, key, value) "
+                            "take(self, key) put_all(self, changes) guard(self, low, high) commit(self) drop(self)"},
 }
 
 
 def signatures(told):
-    return [(word.split("(")[0].strip(), "(" + word.split("(")[1] + ")") for word in told.split(")") if word]
+    return [(name, "(" + arguments + ")") for name, arguments in re.findall(r"(\w+)\(((?:[^()]|\(\))*)\)", told)]
 
 
 class InterfaceTest(unittest.TestCase):
