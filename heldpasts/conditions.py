@@ -94,7 +94,7 @@ def truth_together(truths, deciding):
 
 def truth_between(word, value, told):
     """The truth of a column's value and a told one: None if one is missing, or they are of unlike kinds."""
-    if value is None or told is None or not are_of_one_kind(value, told):
+    if value is None or not are_of_one_kind(value, told):
         return None
     if word == "is":
         return value == told

@@ -20,6 +20,10 @@ FUNCTIONS = {
               "kept_nodes(nodes, snapshots)",
     "holds": "hold_text(hold) hold_told(text) hold_marks(name, hold, signs) holds_told(marks) "
              "held_names(holds, changes) changing_names(holds, guards)",
+    "conditions": "is_name(value) is_condition(columns, value) truth_of(columns, condition, row) "
+                  "meets(columns, condition, row)",
+    "schemas": "is_schema(value) fits(schema, value) key_of(schema, row) schema_text(schema) schema_told(text)",
+    "tables": "schema_key(name) row_key(schema, key_values) index_entries(schema, row) table_stretches(name)",
 }
 CLASSES = {
     "disk": {"Disk": "__init__(self, image, signs, steps=None) read(self, index) write(self, index, block) flush(self) "
@@ -37,6 +41,11 @@ CLASSES = {
                              "lay(self, node, serial, changes, marks, synced) history(self) told_order(self)",
                  "Session": "value_at(self, key) entries(self, low, high, back=False) put(self, key, value) "
                             "take(self, key) put_all(self, changes) guard(self, low, high) commit(self) drop(self)"},
+    "books": {"Book": "__init__(self, session) tables(self) schema(self, name) make(self, schema) drop(self, name) "
+                      "add(self, name, row) change(self, name, key_values, row) take(self, name, key_values) "
+                      "add_index(self, name, index) take_index(self, name, index_name) "
+                      "row_at(self, name, key_values) rows_of(self, name) entries_of(self, name, index_name) "
+                      "keys_through(self, name, plan)"},
 }
 
 

@@ -16,6 +16,7 @@ isupper items join keys ljust lower lstrip partition pop remove replace reverse 
 setdefault split splitlines startswith strip update upper values zfill bit_length title capitalize swapcase casefold
 center expandtabs removeprefix removesuffix rindex isascii isdecimal isnumeric istitle isidentifier isprintable
 translate sort add discard appendleft popleft extendleft rotate""".split()
+KEYWORDS = (("sorted", "reverse"), ("min", "default"), ("max", "default"), ("sum", "start"), ("enumerate", "start"))
 BARRED = (ast.Div, ast.Global, ast.AsyncFunctionDef, ast.AsyncFor, ast.AsyncWith, ast.Await, ast.Import, ast.AnnAssign)
 BARRED_NAMES = """register mro elements open input law version_info with_traceback add_note chr eval exec exit globals
 locals vars dir id help compile getattr setattr hasattr delattr os sys gc""".split()
@@ -126,6 +127,24 @@ class LanguageTest(unittest.TestCase):
             for call in definitions(tree, ast.Call):
                 if isinstance(call.func, ast.Attribute):
                     self.assertIn(call.func.attr, set(METHODS) | own)
+
+    def test_keywords_of_builtins(self):
+        for path, tree in self.each():
+            for call in definitions(tree, ast.Call):
+                if isinstance(call.func, ast.Name) and call.func.id in BUILTINS:
+                    for word in call.keywords:
+                        self.assertIn((call.func.id, word.arg), KEYWORDS)
+                        self.assertTrue(word.arg != "reverse" or isinstance(word.value, ast.Constant))
+
+    def test_sets_are_written_where_they_are_asked(self):
+        for path, tree in self.each():
+            asked = [argument for call in definitions(tree, ast.Call) if isinstance(call.func, ast.Name)
+                     and call.func.id in ("sorted", "len") for argument in call.args]
+            asked += [side for node in asked if isinstance(node, ast.BinOp) for side in (node.left, node.right)]
+            for call in definitions(tree, ast.Call):
+                if isinstance(call.func, ast.Name) and call.func.id == "set":
+                    self.assertIn(call, asked)
+            self.assertEqual(definitions(tree, (ast.Set, ast.SetComp, ast.GeneratorExp)), [])
 
     def test_statements_and_values(self):
         for path, tree in self.each():

@@ -3,6 +3,7 @@
 from time import monotonic
 import unittest
 
+from heldpasts.books import Book
 from heldpasts.disk import Disk
 from heldpasts.errors import NotSerial
 from heldpasts.meaning import meaning_of
@@ -60,6 +61,24 @@ class LimitsTest(Case):
         store.add((("k000", "y"),))
         self.timed(store.checkpoint)
         self.assertEqual(meaning_of(store.disk.image, 1000), store.meaning())
+
+    def test_tables(self):
+        schema = ("t", (("a", "int", False), ("b", "text", False)), ("a",), (("ib", ("b",), True),), ())
+        for serial in (False, True):
+            versions = Versions(Store(fresh_disk(10, 180, 1000)))
+            book = Book(versions.begin(serial))
+            book.make(schema)
+            for at in range(200):
+                self.timed(book.add, "t", (at, f"x{at * 7 % 200}"))
+            self.timed(book.session.commit)
+            book = Book(versions.begin(serial))
+            self.timed(book.add_index, "t", ("ia", ("b", "a"), True))
+            for at in range(200):
+                self.timed(book.change, "t", (at,), (at, f"y{at}"))
+            self.assertEqual(len(self.timed(book.rows_of, "t")), 200)
+            self.assertEqual(len(self.timed(book.keys_through, "t", ("index", "ia", None, None))), 200)
+            self.timed(book.drop, "t")
+            self.timed(book.session.commit)
 
     def test_nodes(self):
         keys = tuple(f"k{at:03d}" for at in range(700))

@@ -216,8 +216,9 @@ class ChangeTest(SessionCase):
         session.put("", "x" * (room - 11))
         session.put("a b", "x" * (room - 15))
         session.take(key + "k")
-        for call, members in ((session.put, (key, "xx")), (session.put, (key + "kk", "")), (session.take, (key + "kk",)),
-                              (session.put, ("", "x" * (room - 10))), (session.put, ("a b", "x" * (room - 14)))):
+        for call, members in ((session.put, (key, "xx")), (session.put, (key + "kk", "")),
+                              (session.take, (key + "kk",)), (session.put, ("", "x" * (room - 10))),
+                              (session.put, ("a b", "x" * (room - 14)))):
             self.assertEqual(self.unchanged((session,), TooLong, call, *members).text, members[0])
         changes = (("a", "1"), ("b", "x" * room), ("c", "x" * room))
         self.assertEqual(self.unchanged((session,), TooLong, session.put_all, changes).text, "b")
