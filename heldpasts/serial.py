@@ -5,6 +5,7 @@ A node is a tuple (number, snapshot, notes, keys) of a commit; nodes is a dictio
 
 from heapq import heappop, heappush
 
+from heldpasts.errors import InvalidNumber
 from heldpasts.tree import lies_in
 
 
@@ -52,9 +53,11 @@ def first_from(keys, low):
 
 def ring_through(nodes, number):
     """The first of the shortest rings that begin with a number, None if there is none."""
+    if type(number) is not int:
+        raise InvalidNumber("a ring goes through the number of a commit")
     met = {number: True}
     # Ways of one length, in their order: so the first one to meet a number is the first of the shortest to it.
-    ways = [(number,)]
+    ways = [(number,)] if number in nodes else []
     while ways:
         for way in ways:
             if len(way) > 1 and leads(nodes[way[-1]], nodes[number]):

@@ -2,8 +2,9 @@ from itertools import permutations
 from random import Random
 import unittest
 
+from heldpasts.errors import InvalidNumber
 from heldpasts.serial import kept_nodes, leads, order_of, pivots, ring_through
-from tests.helpers import Case
+from tests.helpers import WRONG_INTEGERS, Case
 from tests.serials import is_right, keeps_leads, lead_words, nodes_by_chance, right_orders, rings_from
 
 READ_A = ("value", "a", None)
@@ -65,6 +66,10 @@ class RingTest(Case):
         self.assertEqual(ring_through(two, 1), (1, 2))
         self.assertEqual(ring_through(nodes=two, number=2), (2, 1))
         self.assertIsNone(ring_through(nodes_of(node(1, keys="a"), node(2, keys="a")), 2))
+        self.assertIsNone(ring_through(two, 3))
+        self.assertIsNone(ring_through({}, 1))
+        for value in WRONG_INTEGERS:
+            self.refused(InvalidNumber, ring_through, two, value)
         # A node that would lead itself makes no ring.
         self.assertIsNone(ring_through(nodes_of(node(1, 0, (READ_A,), "a")), 1))
 
