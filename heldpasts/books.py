@@ -4,8 +4,8 @@ from heldpasts.conditions import check_name
 from heldpasts.errors import Alike, InvalidPlan, InvalidSchema, Missing, NoIndex, NoTable, Taken
 from heldpasts.keys import check_row, row_code, values_told
 from heldpasts.schemas import check_fits, check_schema, is_index, names_of, schema_text, schema_told, values_at
-from heldpasts.tables import index_entry, index_entry_told, index_head, lying, row_key, schema_key, stretch_of
-from heldpasts.tables import table_stretches
+from heldpasts.tables import index_entry, index_entry_told, index_head, lying, row_key, schema_key
+from heldpasts.tables import stretch_below, stretch_of, table_stretches
 from heldpasts.texts import is_text
 
 
@@ -157,8 +157,8 @@ class Book:
 
     def entries_below(self, head, low, high):
         """The entries whose keys begin with a code, and go on with a text of a stretch."""
-        first, end = stretch_of(head)
-        return self.session.entries(first if low is None else head + low, end if high is None else head + high)
+        first, end = stretch_below(head, low, high)
+        return self.session.entries(first, end)
 
     def lying_at(self, schema, key_values):
         """All with which the row with a key lies in the map."""

@@ -42,6 +42,11 @@ def check_count(value, low, high):
         raise InvalidCount("this number is an integer from " + str(low) + " to " + str(high))
 
 
+def check_from(value, low):
+    if type(value) is not int or value < low:
+        raise InvalidCount("this number is an integer from " + str(low) + " on")
+
+
 def check_age(age):
     check_count(age, 0, 999999)
 

@@ -1,7 +1,7 @@
 """A disk of blocks whose writes land in any sequence, and whose power may be cut at any step."""
 
-from heldpasts.checks import check_block, check_image, check_index, check_signs, is_number
-from heldpasts.errors import InvalidChoice, InvalidCount, PowerCut, TooMany
+from heldpasts.checks import check_block, check_from, check_image, check_index, check_signs, is_number
+from heldpasts.errors import InvalidChoice, PowerCut, TooMany
 
 MOST_CHOICES = 1000
 
@@ -12,8 +12,8 @@ class Disk:
     def __init__(self, image, signs, steps=None):
         check_signs(signs)
         check_image(image, signs)
-        if steps is not None and (type(steps) is not int or steps < 0):
-            raise InvalidCount("steps are None or an integer from 0 on")
+        if steps is not None:
+            check_from(steps, 0)
         self.image = image
         self.signs = signs
         self.pending = ()

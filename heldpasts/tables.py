@@ -14,6 +14,12 @@ def stretch_of(code):
     return (code, code[:-1] + NEXT_SIGNS[code[-1]])
 
 
+def stretch_below(head, low, high):
+    """The stretch of all texts that begin with a row code and go on with a text of a stretch."""
+    first, end = stretch_of(head)
+    return (first if low is None else head + low, end if high is None else head + high)
+
+
 def schema_key(name):
     """The key at which the schema of a table lies."""
     check_name(name)

@@ -16,7 +16,7 @@ isupper items join keys ljust lower lstrip partition pop remove replace reverse 
 setdefault split splitlines startswith strip update upper values zfill bit_length title capitalize swapcase casefold
 center expandtabs removeprefix removesuffix rindex isascii isdecimal isnumeric istitle isidentifier isprintable
 translate sort add discard appendleft popleft extendleft rotate""".split()
-KEYWORDS = (("sorted", "reverse"), ("min", "default"), ("max", "default"), ("sum", "start"), ("enumerate", "start"))
+KEYWORDS = (("sorted", "key"), ("sorted", "reverse"), ("min", "default"), ("max", "default"), ("sum", "start"), ("enumerate", "start"))
 BARRED = (ast.Div, ast.Global, ast.AsyncFunctionDef, ast.AsyncFor, ast.AsyncWith, ast.Await, ast.Import, ast.AnnAssign)
 BARRED_NAMES = """register mro elements open input law version_info with_traceback add_note chr eval exec exit globals
 locals vars dir id help compile getattr setattr hasattr delattr os sys gc""".split()
@@ -40,7 +40,10 @@ def bound_names(function):
     return arguments + [node.id for node in definitions(function, ast.Name) if isinstance(node.ctx, ast.Store)]
 
 
-def is_plain(node):
+def is_plain(node, functions):
+    """Whether a value at module level is a plain one, or a dict whose values are functions from above."""
+    if isinstance(node, ast.Dict) and all(isinstance(value, ast.Name) for value in node.values):
+        return {value.id for value in node.values} <= set(functions) and all(is_plain(key, ()) for key in node.keys)
     try:
         ast.literal_eval(node)
     except ValueError:
@@ -97,7 +100,7 @@ class LanguageTest(unittest.TestCase):
             for node in tree.body:
                 if isinstance(node, ast.Assign):
                     self.assertEqual(len(node.targets), 1)
-                    self.assertTrue(is_plain(node.value), ast.unparse(node))
+                    self.assertTrue(is_plain(node.value, names), ast.unparse(node))
                     names.append(node.targets[0].id)
                 elif isinstance(node, (ast.FunctionDef, ast.ClassDef)):
                     names.append(node.name)
