@@ -17,6 +17,11 @@ def is_change(value):
     return is_text(value[0]) and (value[1] is None or is_text(value[1]))
 
 
+def is_entries(value):
+    """Whether a value is entries: an ascending tuple of (key, value), keys unlike."""
+    return is_changes(value) and all([text is not None for _, text in value])
+
+
 def change_text(change):
     """The text of one change or mark in a record."""
     key, value = change

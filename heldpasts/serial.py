@@ -3,19 +3,24 @@
 A node is a tuple (number, snapshot, notes, keys) of a commit; nodes is a dictionary from numbers to nodes.
 """
 
-from heapq import heappop, heappush
-
 from heldpasts.errors import InvalidNumber
+from heldpasts.rings import first_order, first_ring
 from heldpasts.tree import lies_in
 
 
 def leads(one, other):
     """Whether one of two nodes is to stand ahead of the other one."""
-    if one[0] < other[0] and len(set(one[3]) & set(other[3])) > 0:
-        return True
-    if one[0] <= other[1] and have_any(other[2], one[3]):
-        return True
-    return overlooks(one, other)
+    return wrote_ahead(one, other) or was_read(one, other) or overlooks(one, other)
+
+
+def wrote_ahead(one, other):
+    """Whether both changed a key, one ahead of the other one."""
+    return one[0] < other[0] and len(set(one[3]) & set(other[3])) > 0
+
+
+def was_read(one, other):
+    """Whether a note of the other one has a key that one changed up to the other one's snapshot."""
+    return one[0] <= other[1] and have_any(other[2], one[3])
 
 
 def overlooks(one, other):
@@ -55,42 +60,12 @@ def ring_through(nodes, number):
     """The first of the shortest rings that begin with a number, None if there is none."""
     if type(number) is not int:
         raise InvalidNumber("a ring goes through the number of a commit")
-    met = {number: True}
-    # Ways of one length, in their order: so the first one to meet a number is the first of the shortest to it.
-    ways = [(number,)] if number in nodes else []
-    while ways:
-        for way in ways:
-            if len(way) > 1 and leads(nodes[way[-1]], nodes[number]):
-                return way
-        further = []
-        for way in ways:
-            for other in sorted(nodes):
-                if other not in met and leads(nodes[way[-1]], nodes[other]):
-                    met[other] = True
-                    further.append(way + (other,))
-        ways = further
-    return None
+    return first_ring(sorted(nodes), number, lambda one, other: leads(nodes[one], nodes[other]))
 
 
 def order_of(nodes):
     """The tuple of all numbers, each the least that none of those left leads; None by a ring."""
-    led = {number: [] for number in nodes}
-    ahead = {number: 0 for number in nodes}
-    for number in nodes:
-        for other in nodes:
-            if number != other and leads(nodes[number], nodes[other]):
-                led[number].append(other)
-                ahead[other] += 1
-    free = [number for number in sorted(nodes) if ahead[number] == 0]
-    order = []
-    while free:
-        number = heappop(free)
-        order.append(number)
-        for other in led[number]:
-            ahead[other] -= 1
-            if ahead[other] == 0:
-                heappush(free, other)
-    return tuple(order) if len(order) == len(nodes) else None
+    return first_order(sorted(nodes), lambda one, other: leads(nodes[one], nodes[other]))
 
 
 def pivots(nodes):

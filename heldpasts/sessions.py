@@ -53,6 +53,11 @@ class Session:
             self.noted[note] = True
             self.notes = self.notes + (note,)
 
+    def go_back_to(self, notes):
+        """Keeps no other notes than these, which it had before."""
+        self.notes = notes
+        self.noted = {note: True for note in notes}
+
     def put(self, key, value):
         """An own change: the key has this value."""
         check_text(key)

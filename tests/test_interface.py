@@ -24,6 +24,18 @@ FUNCTIONS = {
                   "meets(columns, condition, row)",
     "schemas": "is_schema(value) fits(schema, value) key_of(schema, row) schema_text(schema) schema_told(text)",
     "tables": "schema_key(name) row_key(schema, key_values) index_entries(schema, row) table_stretches(name)",
+    "stretches": "bounds_of(schema, column, condition, wanted=True) stretch_for(schema, columns, condition)",
+    "looks": "is_question(book, value) plain_answer(book, question) plans(book, question) "
+             "plan_cost(book, question, plan) best_plan(book, question) look(book, question, plan=None)",
+    "pairs": "paired(book, question, other_question, on, road) totals(book, question, groups, sums)",
+    "batches": "standing(store)",
+    "feeds": "feed(store, number) copy_letter(store, number, pieces, index) copy_letters(store, number, size) "
+             "letters_from(store, number, size=None) is_letter(value) letter_text(letter) letter_told(text)",
+    "script_texts": "command_told(command) command_text(pieces) value_text(value)",
+    "judge": "is_note(value) is_history(value) is_given(entries, value) past_of(entries, history, number) "
+             "is_snapshot_history(entries, history) edges_of(history) is_ring(history, value) ring_of(history) "
+             "pivots_of(history) keeps_edges(history, value) order_of(history) is_right_order(history, value) "
+             "right_orders(history) is_serial_order(entries, history, value) told_history(versions)",
 }
 CLASSES = {
     "disk": {"Disk": "__init__(self, image, signs, steps=None) read(self, index) write(self, index, block) flush(self) "
@@ -46,6 +58,13 @@ CLASSES = {
                       "add_index(self, name, index) take_index(self, name, index_name) "
                       "row_at(self, name, key_values) rows_of(self, name) entries_of(self, name, index_name) "
                       "keys_through(self, name, plan)"},
+    "prepared": {"Keeper": "__init__(self, versions) names(self) told(self, name) prepare(self, session, name) "
+                           "settle(self, name) let_go(self, name)"},
+    "batches": {"Batch": "__init__(self, versions, most=None) commit(self, session) waiting(self) done(self) "
+                         "sync(self)"},
+    "followers": {"Follower": "__init__(self, store) entries(self) hear(self, letter) waiting(self) "
+                              "letters(self, size)"},
+    "server": {"Server": "__init__(self, disk) execute(self, command)"},
 }
 
 
